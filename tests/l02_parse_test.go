@@ -1156,8 +1156,8 @@ func TestProgramResultsAreNewMemory(t *testing.T) {
 	}
 }
 
-// Promise 19: no argument makes a function panic.
-func TestProgramFunctionsReturnForEveryArgument(t *testing.T) {
+// wildPrograms are of any shape; hardly one of them is valid.
+func wildPrograms(count int) []impl.Program {
 	source := rand.New(rand.NewSource(5))
 	pick := func(list ...int64) int64 { return list[source.Intn(len(list))] }
 	name := func() string {
@@ -1180,7 +1180,8 @@ func TestProgramFunctionsReturnForEveryArgument(t *testing.T) {
 		}
 		return a
 	}
-	for range 20000 {
+	list := []impl.Program{}
+	for range count {
 		var p impl.Program
 		for range source.Intn(3) {
 			p.Decls = append(p.Decls, impl.Decl{Name: name(), Types: []string{name()}})
@@ -1190,8 +1191,18 @@ func TestProgramFunctionsReturnForEveryArgument(t *testing.T) {
 			for range source.Intn(3) {
 				r.Body = append(r.Body, impl.Lit{Kind: pick(-1, 0, 1, 2, 3, 4), Atom: atom(), Op: name(), Left: nodes(), Right: nodes()})
 			}
-			impl.VarsOf(r)
 			p.Rules = append(p.Rules, r)
+		}
+		list = append(list, p)
+	}
+	return list
+}
+
+// Promise 19: no argument makes a function panic.
+func TestProgramFunctionsReturnForEveryArgument(t *testing.T) {
+	for _, p := range wildPrograms(20000) {
+		for _, r := range p.Rules {
+			impl.VarsOf(r)
 		}
 		if shown := impl.ShowProgram(p); impl.ProgramOk(p) {
 			expectRead(t, shown, p)
