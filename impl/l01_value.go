@@ -213,14 +213,19 @@ func copyRow(row []Value) []Value {
 	return out
 }
 
+func copyRows(rows [][]Value) [][]Value {
+	out := make([][]Value, 0, len(rows))
+	for _, row := range rows {
+		out = append(out, copyRow(row))
+	}
+	return out
+}
+
 func MakeTable(rows [][]Value) [][]Value {
 	if !rowsOk(rows) {
 		return nil
 	}
-	table := make([][]Value, 0, len(rows))
-	for _, row := range rows {
-		table = append(table, copyRow(row))
-	}
+	table := copyRows(rows)
 	slices.SortFunc(table, func(a, b []Value) int {
 		return int(CompareRows(a, b))
 	})

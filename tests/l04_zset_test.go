@@ -982,10 +982,7 @@ func TestDifferencesLeaveTheirArgumentsAlone(t *testing.T) {
 		on, columns := int64(m.Intn(width+1)), append(m.columns(width), 71, 72)
 		columns = columns[:len(columns)-2]
 		arguments := []any{a, b, old, now, columns}
-		before := ""
-		for _, x := range arguments {
-			before += contents(x)
-		}
+		before := contents(arguments...)
 		for _, result := range []any{
 			impl.DiffOk(a),
 			impl.AddDiffs(a, b), impl.AddDiffs(a, nil), impl.AddDiffs(nil, b), impl.AddDiffs(a, a),
@@ -1000,11 +997,7 @@ func TestDifferencesLeaveTheirArgumentsAlone(t *testing.T) {
 				expectOwnMemory(t, result, x)
 			}
 		}
-		after := ""
-		for _, x := range arguments {
-			after += contents(x)
-		}
-		if before != after {
+		if after := contents(arguments...); before != after {
 			t.Fatalf("%s became %s", before, after)
 		}
 	}

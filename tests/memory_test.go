@@ -8,9 +8,9 @@ import (
 	"unsafe"
 )
 
-// contents writes out x with everything in it, including the unused capacity
-// of slices, so that two calls tell whether it was modified in between.
-func contents(x any) string {
+// contents writes out xs with everything in them, including the unused capacity
+// of slices, so that two calls tell whether they were modified in between.
+func contents(xs ...any) string {
 	var out strings.Builder
 	var write func(reflect.Value)
 	write = func(v reflect.Value) {
@@ -29,7 +29,9 @@ func contents(x any) string {
 			fmt.Fprintf(&out, "%#v;", v.Interface())
 		}
 	}
-	write(reflect.ValueOf(x))
+	for _, x := range xs {
+		write(reflect.ValueOf(x))
+	}
 	return out.String()
 }
 
