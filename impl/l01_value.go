@@ -221,17 +221,21 @@ func copyRows(rows [][]Value) [][]Value {
 	return out
 }
 
+// ascend sorts rows in place, and drops those that are repeated.
+func ascend(rows [][]Value) [][]Value {
+	slices.SortFunc(rows, func(a, b []Value) int {
+		return int(CompareRows(a, b))
+	})
+	return slices.CompactFunc(rows, func(a, b []Value) bool {
+		return CompareRows(a, b) == 0
+	})
+}
+
 func MakeTable(rows [][]Value) [][]Value {
 	if !rowsOk(rows) {
 		return nil
 	}
-	table := copyRows(rows)
-	slices.SortFunc(table, func(a, b []Value) int {
-		return int(CompareRows(a, b))
-	})
-	return slices.CompactFunc(table, func(a, b []Value) bool {
-		return CompareRows(a, b) == 0
-	})
+	return ascend(copyRows(rows))
 }
 
 func HasRow(t [][]Value, row []Value) bool {
